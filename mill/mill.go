@@ -1,0 +1,65 @@
+// Package mill: flows of many rates: see DOC.md.
+package mill
+
+import "errors"
+
+var (
+	ErrLong    = errors.New("too long")
+	ErrToken   = errors.New("no token")
+	ErrSyntax  = errors.New("it cannot go on so")
+	ErrMany    = errors.New("too many items")
+	ErrTwice   = errors.New("a name for the second time")
+	ErrName    = errors.New("no flow has that name")
+	ErrType    = errors.New("types that do not fit")
+	ErrPeriod  = errors.New("periods that do not fit")
+	ErrFree    = errors.New("a flow without a period")
+	ErrCycle   = errors.New("a flow that needs itself")
+	ErrFlow    = errors.New("no such flow or instant")
+	ErrInputs  = errors.New("inputs that do not fit")
+	ErrOverrun = errors.New("a job was not done in time")
+)
+
+// Flow of a program: Type 0 int, 1 bool.
+type Flow struct {
+	Name          string
+	Type, Period  int
+	Input, Output bool
+}
+
+// Task of a program: the equations of one period, in their order.
+type Task struct {
+	Period int
+	Order  []int
+}
+
+// Program is one that was compiled.
+type Program struct{}
+
+// Compile and what it tells: P4, P5.
+func Compile(text string) (*Program, error) { return nil, nil }
+
+func (p *Program) Flows() []Flow { return nil }
+
+func (p *Program) Tasks() []Task { return nil }
+
+func (p *Program) Meaning(flow int, ins [][]int64, n int) (int64, error) { return 0, nil }
+
+// Machine and Run: P6 to P8.
+func (p *Program) Machine() *Machine { return nil }
+
+func (p *Program) Run(ins [][]int64, ticks int) ([][]int64, error) { return nil, nil }
+
+// Machine carries a program out in small steps.
+type Machine struct{}
+
+func (m *Machine) Tick(ins []int64) error { return nil }
+
+func (m *Machine) Pick(task int) int { return 0 }
+
+func (m *Machine) Overrun() bool { return false }
+
+func (m *Machine) Clock() int { return 0 }
+
+func (m *Machine) Busy(task int) bool { return false }
+
+func (m *Machine) Log(flow int) []int64 { return nil }
