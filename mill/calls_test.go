@@ -11,7 +11,7 @@ import (
 	"ratemill/reg"
 )
 
-const sample = "input x:int every 2;a:bool=not(x<1 xor fby(true,a))or x==min(x,-2)and a;output a;"
+const sample = "input x:int every 2;a:bool=not(x<1 xor fby(true,a))or x==min(x,-2)and d;c:int=under(x,2);d:bool=x>1;output a;"
 
 // eachText goes through all texts of so many pieces at most.
 func eachText(pieces []string, most int, see func(string)) {
@@ -33,6 +33,12 @@ func TestP1NoTextPanics(t *testing.T) {
 				t.Fatalf("Parse(%q): tree %t, %v", s, tree != nil, err)
 			}
 			mill.Print(tree)
+			p, err := mill.Compile(s)
+			if (p == nil) != (err != nil) {
+				t.Fatalf("Compile(%q): program %t, %v", s, p != nil, err)
+			}
+			p.Flows()
+			p.Tasks()
 		}
 	})
 }
@@ -77,22 +83,28 @@ func TestP1NoReceiver(t *testing.T) {
 	r.StepRead()
 }
 
-// A text whose bytes change behind Parse's back must not change its tree.
+// A text whose bytes change behind the program's back must not change what was
+// made of it.
 func TestP1TextIsNotKept(t *testing.T) {
 	bytes := []byte(sample)
-	tree, err := mill.Parse(unsafe.String(&bytes[0], len(bytes)))
+	text := unsafe.String(&bytes[0], len(bytes))
+	tree, err := mill.Parse(text)
 	if err != nil {
 		t.Fatal(err)
 	}
+	p := compiled(t, text)
 	if string(bytes) != sample {
 		t.Errorf("the text was changed")
 	}
-	before := strings.Clone(mill.Print(tree))
+	before, toldBefore := strings.Clone(mill.Print(tree)), strings.Clone(told(p))
 	for i := range bytes {
 		bytes[i] = 'z'
 	}
 	if after := mill.Print(tree); after != before {
 		t.Errorf("printed %q, and when the text had changed %q", before, after)
+	}
+	if after := told(p); after != toldBefore {
+		t.Errorf("told %q, and when the text had changed %q", toldBefore, after)
 	}
 }
 
@@ -102,6 +114,8 @@ func TestP1SameByGoroutines(t *testing.T) {
 		t.Fatal(err)
 	}
 	want := mill.Print(tree)
+	p := compiled(t, sample)
+	wantTold := told(p)
 	var all sync.WaitGroup
 	for range 20 {
 		all.Go(func() {
@@ -109,6 +123,10 @@ func TestP1SameByGoroutines(t *testing.T) {
 				own, err := mill.Parse(sample)
 				if err != nil || mill.Print(own) != want || mill.Print(tree) != want {
 					t.Errorf("another answer: %v", err)
+				}
+				q, err := mill.Compile(sample)
+				if err != nil || told(q) != wantTold || told(p) != wantTold {
+					t.Errorf("another program: %v", err)
 				}
 				if _, f := plain.Parse(sample + "a:int=;"); f != (plain.Fault{E: 3, At: len(sample) + 6}) {
 					t.Errorf("another fault: %v", f)
@@ -141,6 +159,28 @@ func TestFaultsFromOutside(t *testing.T) {
 		tree, f := plain.Parse(c.text)
 		if f != c.want || (tree == nil) != (c.want.E != 0) {
 			t.Errorf("%.40q: tree %t, %v, want %v", c.text, tree != nil, f, c.want)
+		}
+	}
+}
+
+func TestFaultsOfCompileFromOutside(t *testing.T) {
+	for _, c := range []struct {
+		text string
+		want plain.Fault
+	}{
+		{sample, plain.Fault{}},
+		{strings.Repeat(" ", 4001), plain.Fault{E: 1, At: -1}},
+		{"a:int=1<2<3;", plain.Fault{E: 3, At: 9}},
+		{"input a:int every 1;a:int=1;", plain.Fault{E: 5, At: 20}},
+		{"a:int=b;", plain.Fault{E: 6, At: 6}},
+		{"a:int=true;", plain.Fault{E: 7, At: 0}},
+		{"input a:int every 1;b:int=a+under(a,2);", plain.Fault{E: 8, At: 27}},
+		{"a:int=1;", plain.Fault{E: 9, At: 0}},
+		{"input a:int every 1;b:int=a+b;", plain.Fault{E: 10, At: 20}},
+	} {
+		p, f := plain.Compile(c.text)
+		if f != c.want || (p == nil) != (c.want.E != 0) {
+			t.Errorf("%.40q: program %t, %v, want %v", c.text, p != nil, f, c.want)
 		}
 	}
 }

@@ -32,16 +32,7 @@ type Task struct {
 	Order  []int
 }
 
-// Program is one that was compiled.
-type Program struct{}
-
-// Compile and what it tells: P4, P5.
-func Compile(text string) (*Program, error) { return nil, nil }
-
-func (p *Program) Flows() []Flow { return nil }
-
-func (p *Program) Tasks() []Task { return nil }
-
+// Meaning: P5.
 func (p *Program) Meaning(flow int, ins [][]int64, n int) (int64, error) { return 0, nil }
 
 // Machine and Run: P6 to P8.

@@ -8,7 +8,7 @@ import (
 const (
 	maxBytes  = 4000
 	maxItems  = 60
-	maxEvery  = 1000000
+	maxPeriod = 1000000
 	minFactor = 2
 	maxFactor = 1000
 )
@@ -50,6 +50,11 @@ func readItems(text string) (items []item, fault *Diag) {
 // refused is the fault of the token that is seen now, or of the text's end.
 func (r *reader) refused() *Diag { return &Diag{At: r.token.at, Err: ErrSyntax} }
 
+// here and atomHere are the place of the token that is seen now.
+func (r *reader) here() placed { return placed{at: r.token.at} }
+
+func (r *reader) atomHere() atom { return atom{placed: r.here()} }
+
 func (r *reader) sees(text string) bool {
 	return r.token.kind == fixedToken && r.token.text == text
 }
@@ -70,13 +75,13 @@ func (r *reader) want(text string) {
 }
 
 // name copies what it takes: the tree must not keep the caller's text.
-func (r *reader) name() string {
+func (r *reader) name() flowName {
 	if r.token.kind != nameToken {
 		panic(r.refused())
 	}
-	text := strings.Clone(r.token.text)
+	name := flowName{atom: r.atomHere(), text: strings.Clone(r.token.text)}
 	r.advance()
-	return text
+	return name
 }
 
 // number looks at the size ahead of going on: a fault behind a number that
@@ -114,13 +119,13 @@ func (r *reader) input() item {
 	r.want(":")
 	flowType := r.flowType()
 	r.want("every")
-	every := r.number(1, maxEvery)
+	every := r.number(1, maxPeriod)
 	r.want(";")
 	return input{name: name, flowType: flowType, every: every}
 }
 
 func (r *reader) output() item {
-	names := []string{r.name()}
+	names := []flowName{r.name()}
 	for r.takes(",") {
 		names = append(names, r.name())
 	}
@@ -139,6 +144,7 @@ func (r *reader) equation() item {
 }
 
 func (r *reader) expression() expr {
+	here := r.here()
 	if !r.takes("if") {
 		return r.operand(bindsOr)
 	}
@@ -146,28 +152,29 @@ func (r *reader) expression() expr {
 	r.want("then")
 	yes := r.expression()
 	r.want("else")
-	return choice{test: test, yes: yes, no: r.expression()}
+	return choice{placed: here, test: test, yes: yes, no: r.expression()}
 }
 
 // operand reads what binds at least that tightly.
 func (r *reader) operand(tightness int) expr {
+	here := r.here()
 	switch tightness {
 	case bindsNot:
 		if r.takes("not") {
-			return prefixed{sign: "not", operand: r.operand(bindsNot)}
+			return prefixed{placed: here, sign: "not", operand: r.operand(bindsNot)}
 		}
 	case bindsMinus:
 		if r.takes("-") {
-			return prefixed{sign: "-", operand: r.operand(bindsMinus)}
+			return prefixed{placed: here, sign: "-", operand: r.operand(bindsMinus)}
 		}
 	case bindsAtom:
 		return r.atom()
 	}
 	left := r.operand(tightness + 1)
 	for r.seesOperator(tightness) {
-		sign := r.token.text
+		here, sign := r.here(), r.token.text
 		r.advance()
-		left = paired{sign: sign, left: left, right: r.operand(tightness + 1)}
+		left = paired{placed: here, sign: sign, left: left, right: r.operand(tightness + 1)}
 		if tightness == bindsRelation {
 			break
 		}
@@ -176,67 +183,75 @@ func (r *reader) operand(tightness int) expr {
 }
 
 func (r *reader) seesOperator(tightness int) bool {
-	return r.token.kind == fixedToken && tightnessOf(r.token.text) == tightness
+	return r.token.kind == fixedToken && operatorOf(r.token.text).tightness == tightness
 }
 
 func (r *reader) atom() expr {
+	here := r.atomHere()
 	switch {
 	case r.token.kind == nameToken:
-		return flowName{text: r.name()}
+		return r.name()
 	case r.takes("("):
 		inner := r.expression()
 		r.want(")")
 		return inner
 	case r.takes("fby"):
-		return r.delayed()
+		return r.delayed(here)
 	case r.takes("under"):
-		return r.thinned()
+		return r.thinned(here)
 	case r.takes("hold"):
-		return r.held()
+		return r.held(here)
 	case r.takes("min"):
-		return r.extreme("min")
+		return r.extreme(here, "min")
 	case r.takes("max"):
-		return r.extreme("max")
+		return r.extreme(here, "max")
 	}
 	return r.literal()
 }
 
 func (r *reader) literal() expr {
+	here := r.atomHere()
 	switch {
 	case r.takes("true"):
-		return boolLiteral{value: true}
+		return boolLiteral{atom: here, value: true}
 	case r.takes("false"):
-		return boolLiteral{value: false}
+		return boolLiteral{atom: here, value: false}
 	}
-	return intLiteral{value: r.number(0, math.MaxInt64)}
+	return r.digits()
+}
+
+func (r *reader) digits() expr {
+	here := r.atomHere()
+	return intLiteral{atom: here, value: r.number(0, math.MaxInt64)}
 }
 
 func (r *reader) constant() expr {
+	here := r.here()
 	if r.takes("-") {
-		return prefixed{sign: "-", operand: intLiteral{value: r.number(0, math.MaxInt64)}}
+		return prefixed{placed: here, sign: "-", operand: r.digits()}
 	}
 	return r.literal()
 }
 
-func (r *reader) delayed() expr {
+func (r *reader) delayed(here atom) expr {
 	r.want("(")
 	first := r.constant()
 	r.want(",")
 	operand := r.expression()
 	r.want(")")
-	return delayed{first: first, operand: operand}
+	return delayed{atom: here, first: first, operand: operand}
 }
 
-func (r *reader) thinned() expr {
+func (r *reader) thinned(here atom) expr {
 	r.want("(")
 	operand := r.expression()
 	r.want(",")
 	factor := r.number(minFactor, maxFactor)
 	r.want(")")
-	return thinned{operand: operand, factor: factor}
+	return thinned{atom: here, operand: operand, factor: factor}
 }
 
-func (r *reader) held() expr {
+func (r *reader) held(here atom) expr {
 	r.want("(")
 	first := r.constant()
 	r.want(",")
@@ -244,14 +259,14 @@ func (r *reader) held() expr {
 	r.want(",")
 	factor := r.number(minFactor, maxFactor)
 	r.want(")")
-	return held{first: first, operand: operand, factor: factor}
+	return held{atom: here, first: first, operand: operand, factor: factor}
 }
 
-func (r *reader) extreme(word string) expr {
+func (r *reader) extreme(here atom, word string) expr {
 	r.want("(")
 	left := r.expression()
 	r.want(",")
 	right := r.expression()
 	r.want(")")
-	return extreme{word: word, left: left, right: right}
+	return extreme{atom: here, word: word, left: left, right: right}
 }

@@ -19,15 +19,19 @@ func Print(t *Tree) string {
 }
 
 func (i input) line() string {
-	return "input " + i.name + " : " + typeWords[i.flowType] + " every " + strconv.FormatInt(i.every, 10)
+	return "input " + i.name.text + " : " + typeWords[i.flowType] + " every " + strconv.FormatInt(i.every, 10)
 }
 
 func (i output) line() string {
-	return "output " + strings.Join(i.names, ", ")
+	texts := make([]string, len(i.names))
+	for k, name := range i.names {
+		texts[k] = name.text
+	}
+	return "output " + strings.Join(texts, ", ")
 }
 
 func (i equation) line() string {
-	return i.name + " : " + typeWords[i.flowType] + " = " + exprText(i.body)
+	return i.name.text + " : " + typeWords[i.flowType] + " = " + exprText(i.body)
 }
 
 func exprText(e expr) string {

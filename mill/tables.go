@@ -16,25 +16,39 @@ var signs = [...]string{
 // typeWords are in the order of the numbers by which Flow tells a type.
 var typeWords = [...]string{"int", "bool"}
 
-// operators of two sides.
-var operators = [...]struct {
-	sign      string
-	tightness int
-}{
-	{"or", bindsOr}, {"xor", bindsOr},
-	{"and", bindsAnd},
-	{"<", bindsRelation}, {"<=", bindsRelation}, {">", bindsRelation},
-	{">=", bindsRelation}, {"==", bindsRelation}, {"!=", bindsRelation},
-	{"+", bindsSum}, {"-", bindsSum},
-	{"*", bindsTerm}, {"/", bindsTerm}, {"%", bindsTerm},
+// The types, as Flow tells them; anyType where two operands must only be of
+// one type.
+const (
+	intType = iota
+	boolType
+	anyType
+)
+
+// An operator of two sides: how tightly it binds, the type of both operands
+// and its own.
+type operator struct {
+	sign         string
+	tightness    int
+	wants, gives int
 }
 
-// tightnessOf an operator of two sides; -1 of what is none.
-func tightnessOf(sign string) int {
+var operators = [...]operator{
+	{"or", bindsOr, boolType, boolType}, {"xor", bindsOr, boolType, boolType},
+	{"and", bindsAnd, boolType, boolType},
+	{"<", bindsRelation, intType, boolType}, {"<=", bindsRelation, intType, boolType},
+	{">", bindsRelation, intType, boolType}, {">=", bindsRelation, intType, boolType},
+	{"==", bindsRelation, anyType, boolType}, {"!=", bindsRelation, anyType, boolType},
+	{"+", bindsSum, intType, intType}, {"-", bindsSum, intType, intType},
+	{"*", bindsTerm, intType, intType}, {"/", bindsTerm, intType, intType},
+	{"%", bindsTerm, intType, intType},
+}
+
+// operatorOf a sign; of a sign that is none one that binds as nothing does.
+func operatorOf(sign string) operator {
 	for _, o := range operators {
 		if o.sign == sign {
-			return o.tightness
+			return o
 		}
 	}
-	return -1
+	return operator{tightness: -1}
 }

@@ -11,25 +11,27 @@ type item interface {
 }
 
 type input struct {
-	name     string
+	name     flowName
 	flowType int
 	every    int64
 }
 
 type output struct {
-	names []string
+	names []flowName
 }
 
 type equation struct {
-	name     string
+	name     flowName
 	flowType int
 	body     expr
 }
 
 // An expr knows how tightly it binds: by that the reader's grammar and the
-// printer's brackets stay one and the same thing.
+// printer's brackets stay one and the same thing. Its place is that of the
+// token by which its faults are told: of an operator that operator.
 type expr interface {
 	tightness() int
+	place() int
 }
 
 // How tightly expressions bind, rising.
@@ -45,8 +47,17 @@ const (
 	bindsAtom
 )
 
+// placed is part of every expression.
+type placed struct {
+	at int
+}
+
+func (p placed) place() int { return p.at }
+
 // atom is part of every expression that no operator around it can tear apart.
-type atom struct{}
+type atom struct {
+	placed
+}
 
 func (atom) tightness() int { return bindsAtom }
 
@@ -60,6 +71,7 @@ type boolLiteral struct {
 	value bool
 }
 
+// flowName is a NAME wherever it stands, in an expression or not.
 type flowName struct {
 	atom
 	text string
@@ -67,6 +79,7 @@ type flowName struct {
 
 // prefixed is 'not' or '-' ahead of an operand.
 type prefixed struct {
+	placed
 	sign    string
 	operand expr
 }
@@ -80,13 +93,15 @@ func (x prefixed) tightness() int {
 
 // paired is an operator of two sides with its operands.
 type paired struct {
+	placed
 	sign        string
 	left, right expr
 }
 
-func (x paired) tightness() int { return tightnessOf(x.sign) }
+func (x paired) tightness() int { return operatorOf(x.sign).tightness }
 
 type choice struct {
+	placed
 	test, yes, no expr
 }
 
@@ -118,4 +133,25 @@ type extreme struct {
 	atom
 	word        string
 	left, right expr
+}
+
+// operands of an expression from the left to the right, a constant among them.
+func operands(e expr) []expr {
+	switch x := e.(type) {
+	case prefixed:
+		return []expr{x.operand}
+	case paired:
+		return []expr{x.left, x.right}
+	case choice:
+		return []expr{x.test, x.yes, x.no}
+	case delayed:
+		return []expr{x.first, x.operand}
+	case thinned:
+		return []expr{x.operand}
+	case held:
+		return []expr{x.first, x.operand}
+	case extreme:
+		return []expr{x.left, x.right}
+	}
+	return nil
 }
