@@ -39,6 +39,7 @@ func TestP1NoTextPanics(t *testing.T) {
 			}
 			p.Flows()
 			p.Tasks()
+			p.Meaning(0, [][]int64{{1}}, 1)
 		}
 	})
 }
@@ -96,7 +97,9 @@ func TestP1TextIsNotKept(t *testing.T) {
 	if string(bytes) != sample {
 		t.Errorf("the text was changed")
 	}
+	ins := [][]int64{{1, 2, 3, 4, 5}}
 	before, toldBefore := strings.Clone(mill.Print(tree)), strings.Clone(told(p))
+	meantBefore := means(t, p, 1, ins, 6)
 	for i := range bytes {
 		bytes[i] = 'z'
 	}
@@ -105,6 +108,9 @@ func TestP1TextIsNotKept(t *testing.T) {
 	}
 	if after := told(p); after != toldBefore {
 		t.Errorf("told %q, and when the text had changed %q", toldBefore, after)
+	}
+	if after := means(t, p, 1, ins, 6); after != meantBefore {
+		t.Errorf("it meant %s, and when the text had changed %s", meantBefore, after)
 	}
 }
 
@@ -116,6 +122,8 @@ func TestP1SameByGoroutines(t *testing.T) {
 	want := mill.Print(tree)
 	p := compiled(t, sample)
 	wantTold := told(p)
+	ins := [][]int64{{1, 2, 3, 4, 5}}
+	wantMeant := []int64{0, 1, 0, 1, 0}
 	var all sync.WaitGroup
 	for range 20 {
 		all.Go(func() {
@@ -127,6 +135,13 @@ func TestP1SameByGoroutines(t *testing.T) {
 				q, err := mill.Compile(sample)
 				if err != nil || told(q) != wantTold || told(p) != wantTold {
 					t.Errorf("another program: %v", err)
+				}
+				for n, want := range wantMeant {
+					a, errA := p.Meaning(1, ins, n)
+					b, errB := q.Meaning(1, ins, n)
+					if a != want || b != want || errA != nil || errB != nil {
+						t.Errorf("another meaning: %d, %v and %d, %v", a, errA, b, errB)
+					}
 				}
 				if _, f := plain.Parse(sample + "a:int=;"); f != (plain.Fault{E: 3, At: len(sample) + 6}) {
 					t.Errorf("another fault: %v", f)

@@ -4,8 +4,9 @@ import "slices"
 
 // Program is one that was compiled.
 type Program struct {
-	flows []Flow
-	tasks []Task
+	flows  []Flow
+	tasks  []Task
+	worths []worth
 }
 
 // Compile: P4.
@@ -18,7 +19,7 @@ func Compile(text string) (*Program, error) {
 	if fault := c.findOut(); fault != nil {
 		return nil, fault
 	}
-	return &Program{flows: c.flows, tasks: c.tasks()}, nil
+	return &Program{flows: c.flows, tasks: c.tasks(), worths: c.worths()}, nil
 }
 
 // Flows tells of each flow, in the order of their items.

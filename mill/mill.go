@@ -32,9 +32,6 @@ type Task struct {
 	Order  []int
 }
 
-// Meaning: P5.
-func (p *Program) Meaning(flow int, ins [][]int64, n int) (int64, error) { return 0, nil }
-
 // Machine and Run: P6 to P8.
 func (p *Program) Machine() *Machine { return nil }
 
