@@ -32,22 +32,5 @@ type Task struct {
 	Order  []int
 }
 
-// Machine and Run: P6 to P8.
-func (p *Program) Machine() *Machine { return nil }
-
+// Run: P8.
 func (p *Program) Run(ins [][]int64, ticks int) ([][]int64, error) { return nil, nil }
-
-// Machine carries a program out in small steps.
-type Machine struct{}
-
-func (m *Machine) Tick(ins []int64) error { return nil }
-
-func (m *Machine) Pick(task int) int { return 0 }
-
-func (m *Machine) Overrun() bool { return false }
-
-func (m *Machine) Clock() int { return 0 }
-
-func (m *Machine) Busy(task int) bool { return false }
-
-func (m *Machine) Log(flow int) []int64 { return nil }
