@@ -40,6 +40,7 @@ func TestP1NoTextPanics(t *testing.T) {
 			p.Flows()
 			p.Tasks()
 			p.Meaning(0, [][]int64{{1}}, 1)
+			p.Run([][]int64{{1}}, 1)
 		}
 	})
 }
@@ -100,6 +101,7 @@ func TestP1TextIsNotKept(t *testing.T) {
 	ins := [][]int64{{1, 2, 3, 4, 5}}
 	before, toldBefore := strings.Clone(mill.Print(tree)), strings.Clone(told(p))
 	meantBefore := means(t, p, 1, ins, 6)
+	runs(t, p, ins, 9, "[[1 2 3 4 5] [0 1 0 1 0] [1 3 5] [0 1 1 1 1]]")
 	for i := range bytes {
 		bytes[i] = 'z'
 	}
@@ -109,6 +111,7 @@ func TestP1TextIsNotKept(t *testing.T) {
 	if after := told(p); after != toldBefore {
 		t.Errorf("told %q, and when the text had changed %q", toldBefore, after)
 	}
+	runs(t, p, ins, 9, "[[1 2 3 4 5] [0 1 0 1 0] [1 3 5] [0 1 1 1 1]]")
 	if after := means(t, p, 1, ins, 6); after != meantBefore {
 		t.Errorf("it meant %s, and when the text had changed %s", meantBefore, after)
 	}

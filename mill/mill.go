@@ -31,6 +31,3 @@ type Task struct {
 	Period int
 	Order  []int
 }
-
-// Run: P8.
-func (p *Program) Run(ins [][]int64, ticks int) ([][]int64, error) { return nil, nil }
